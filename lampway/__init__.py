@@ -1,0 +1,1 @@
+"""Lampway: a crossing's lamps, and a line of crossings."""
