@@ -151,9 +151,77 @@ def name_faults(node):
             yield f"L25 not to be used: {node.attr}"
 
 
+def shadow_faults(tree):
+    taken = [node.name for node in tree.body if isinstance(node, ast.ClassDef)]
+    for node in tree.body:
+        if isinstance(node, ast.ImportFrom):
+            taken.extend([alias.asname or alias.name for alias in node.names])
+    for node in ast.walk(tree):
+        called = node.arg if isinstance(node, ast.arg) else None
+        if isinstance(node, ast.Name) and isinstance(node.ctx, ast.Store):
+            called = node.id
+        if called in taken:
+            yield f"L15 called like a class or an import: {called}, line {node.lineno}"
+
+
+def is_call_of(node, names):
+    return isinstance(node, ast.Call) and isinstance(node.func, ast.Name) and node.func.id in names
+
+
+def is_walked_call(node):
+    views = isinstance(node, ast.Call) and isinstance(node.func, ast.Attribute)
+    if views and node.func.attr in ("items", "keys", "values"):
+        return True
+    return is_call_of(node, ("zip", "enumerate", "reversed", "range"))
+
+
+def walked_faults(tree):
+    """Each walked call must stand where it is walked at once."""
+    good = []
+    for node in ast.walk(tree):
+        if isinstance(node, (ast.For, ast.comprehension)):
+            good.append(node.iter)
+        if is_call_of(node, ("list", "tuple", "dict", "sorted", "sum", "any", "all", "enumerate", "zip", "min", "max")):
+            good.extend(node.args[:1] if node.func.id != "zip" else node.args)
+        if isinstance(node, ast.Call) and isinstance(node.func, ast.Attribute) and node.func.attr == "join":
+            good.extend(node.args)
+    for node in ast.walk(tree):
+        if is_walked_call(node) and not any(node is each for each in good):
+            yield f"L23 kept, not walked at once, line {node.lineno}"
+
+
+def set_faults(tree):
+    good = []
+    for node in ast.walk(tree):
+        if is_call_of(node, ("sorted", "len")):
+            good.extend(node.args)
+        if isinstance(node, ast.Compare):
+            good.extend([node.left] + node.comparators)
+    for node in ast.walk(tree):
+        made = isinstance(node, (ast.Set, ast.SetComp)) or is_call_of(node, ("set", "frozenset"))
+        if made and not any(node is each for each in good):
+            yield f"L24 a set that is kept or walked, line {node.lineno}"
+
+
+def keyword_faults(tree):
+    allowed = {"sorted": ("key", "reverse"), "min": ("key", "default"), "max": ("key", "default"), "sum": ("start",),
+               "enumerate": ("start",), "zip": ("strict",)}
+    for node in ast.walk(tree):
+        if isinstance(node, ast.Call) and node.keywords:
+            called = node.func.id if isinstance(node.func, ast.Name) else None
+            if any(keyword.arg not in allowed.get(called, ()) for keyword in node.keywords):
+                yield f"L22 a keyword, line {node.lineno}"
+
+
+def drawn_files(tree):
+    return [node.module for node in tree.body if isinstance(node, ast.ImportFrom)]
+
+
 def faults(source):
     tree = ast.parse(source)
-    found = list(sign_faults(source)) + list(top_faults(tree))
+    found = list(sign_faults(source))
+    for looker in (top_faults, shadow_faults, walked_faults, set_faults, keyword_faults):
+        found.extend(looker(tree))
     for node in ast.walk(tree):
         for looker in (statement_faults, def_faults, expression_faults, name_faults):
             found.extend([f"{fault}, line {getattr(node, 'lineno', 0)}" for fault in looker(node)])
@@ -182,6 +250,35 @@ class Language(unittest.TestCase):
                     values.append(node.attr)
         self.assertEqual(sorted(set(methods) & set(values)), [])
 
+    def test_names_are_drawn_from_the_files_that_define_them(self):
+        defined = {}
+        for path in sorted(PACKAGE.glob("*.py")):
+            tree = ast.parse(path.read_text("utf-8"))
+            defined["lampway." + path.stem] = [node.name for node in tree.body if hasattr(node, "name")] + [
+                node.targets[0].id for node in tree.body if isinstance(node, ast.Assign)]
+        for path in sorted(PACKAGE.glob("*.py")):
+            for node in ast.parse(path.read_text("utf-8")).body:
+                if isinstance(node, ast.ImportFrom):
+                    for alias in node.names:
+                        self.assertIn(alias.name, defined[node.module], path.name)
+
+    def test_every_imported_name_is_used(self):
+        for path in sorted(PACKAGE.glob("*.py")):
+            tree = ast.parse(path.read_text("utf-8"))
+            used = [node.id for node in ast.walk(tree) if isinstance(node, ast.Name)]
+            for node in tree.body:
+                if isinstance(node, ast.ImportFrom):
+                    self.assertEqual([alias.name for alias in node.names if alias.name not in used], [], path.name)
+
+    def test_no_two_files_draw_from_one_another(self):
+        drawn = {"lampway." + path.stem: drawn_files(ast.parse(path.read_text("utf-8")))
+                 for path in PACKAGE.glob("*.py")}
+        reached = dict(drawn)
+        for step in range(len(drawn)):
+            reached = {one: sorted(set(others).union(*[drawn[other] for other in others]))
+                       for one, others in reached.items()}
+        self.assertEqual([one for one, others in reached.items() if one in others], [])
+
     def test_a_fault_is_seen(self):
         for rule, source in (
             ("L2", "from json import loads\n"),
@@ -201,9 +298,13 @@ class Language(unittest.TestCase):
             ("L14", "A = \"\u00e9\"\n"),
             ("L15", "A = 1\nA = 2\n"),
             ("L15", "def a(hash):\n    return hash\n"),
+            ("L15", "from lampway.words import words\ndef a(words):\n    return words\n"),
             ("L17", "# its type\n"),
             ("L19", "def a():\n    try:\n        b()\n    except Exception:\n        pass\n"),
             ("L20", "def a(b, c):\n    return b is c\n"),
+            ("L22", "def a(b):\n    return b(c=1)\n"),
+            ("L23", "def a(b):\n    c = zip(b, b)\n    return c\n"),
+            ("L24", "def a(b):\n    c = set(b)\n    return c\n"),
             ("L25", "def a(b):\n    return b.title()\n"),
             ("L27", "A = \"5 %\"\n"),
             ("L27", "def a(b):\n    return 2 ** b\n"),
