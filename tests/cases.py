@@ -4,7 +4,9 @@ import random
 
 from lampway.crossings import read_crossing
 from lampway.errors import LampError, NoText
+from lampway.meets import gap, meet
 from lampway.plans import made_plan
+from lampway.stages import read_stages
 
 # Cars that cross one another, one that turns off, feet over the road, a tram straight through.
 TOWN = "\n".join([
@@ -103,6 +105,59 @@ def tried_plan(draw, crossing):
         return made_plan(crossing, size, rows)
     except LampError:
         return None
+
+
+def drawn_stages_text(draw, crossing, most_turns=5):
+    """The text of a plan of stages that is let by, or None where the ways drawn fall into more than six stages."""
+    names = crossing.names()
+    draw.shuffle(names)
+    stages = []
+    for name in names:
+        fitting = [stage for stage in stages if fits(crossing, stage, name)]
+        if fitting and draw.random() < 0.6:
+            draw.choice(fitting).append(name)
+        else:
+            stages.append([name])
+    rows = []
+    for stage in stages:
+        low = max([crossing.called(name).least for name in stage]) + draw.choice([0, 0, 1])
+        rows.append(f"stage {low} {low + draw.randint(0, most_turns)} " + " ".join(stage))
+    return "\n".join(rows) if len(rows) <= 6 else None
+
+
+def fits(crossing, stage, name):
+    trams = [crossing.called(each).kind == "tram" for each in (stage[0], name)]
+    return trams[0] == trams[1] and not any([meet(crossing, each, name) for each in stage])
+
+
+def drawn_staging(draw, most_ways=6, most_turns=5, **kinds):
+    """A crossing and the text of a plan of stages for it that is let by."""
+    while True:
+        crossing = drawn_crossing(draw, most_ways=most_ways, **kinds)
+        text = drawn_stages_text(draw, crossing, most_turns)
+        if text is not None:
+            return crossing, text
+
+
+def drawn_stages(draw, **kinds):
+    return read_stages(*drawn_staging(draw, **kinds))
+
+
+class Nearness:
+    """Holds rows of colours, turn by turn, against the first promise of point 3."""
+
+    def __init__(self, crossing):
+        self.pairs = [(one, other, gap(crossing, one, other)) for one in crossing.names() for other in crossing.names()
+                      if one != other and meet(crossing, one, other)]
+        self.last_free = {}
+        self.turn = 0
+
+    def too_near(self, colours):
+        self.last_free.update({name: self.turn for name, shown in colours.items() if shown == "free"})
+        found = [(one, other, self.turn) for one, other, turns in self.pairs
+                 if colours[other] == "free" and self.turn - self.last_free.get(one, -1000) <= turns]
+        self.turn += 1
+        return found
 
 
 def drawing(seed):
