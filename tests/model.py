@@ -54,7 +54,8 @@ class Model:
         tram_waits = any([self.ways[name].kind == "tram" for name in waiting])
         stays = not waiting or n < self.leasts[stage] or (n < self.mosts[stage] and own and not tram_waits)
         if stays:
-            return (stage, n + 1 if n < 61 else 61, None, None, None, waiting, last_tram, last_other)
+            # Beyond its MOST all turns of a stage are alike.
+            return (stage, min(n + 1, self.mosts[stage]), None, None, None, waiting, last_tram, last_other)
         to = self.pick(stage, waiting, last_tram, last_other)
         if self.trams[to]:
             last_tram = to
@@ -73,3 +74,30 @@ class Model:
         while not (waited[number] and self.trams[number] == sort):
             number = (number + 1) % self.many
         return number
+
+
+def reachable(model):
+    """All states that some row of asks comes to, each with those that may follow it."""
+    subsets = [[]]
+    for name in model.names:
+        subsets += [each + [name] for each in subsets]
+    follow, left = {}, [model.first]
+    while left:
+        state = left.pop()
+        if state not in follow:
+            follow[state] = {tuple(asks): model.step(state, asks) for asks in subsets}
+            left.extend(follow[state].values())
+    return follow
+
+
+def greatest_wait(model, follow, name):
+    """The greatest number of turns from an ask to the first free turn, gone through all states."""
+    home, known = model.home[name], {}
+
+    def wait(state):
+        if state[0] == home:
+            return 0
+        if state not in known:
+            known[state] = 1 + max([wait(later) for asks, later in follow[state].items() if name in asks])
+        return known[state]
+    return max([wait(state) for state in follow])
