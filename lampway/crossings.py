@@ -11,7 +11,6 @@ MOST_WAYS = 12
 MOST_OFF = 30
 MOST_NEAR = 30
 MOST_LEAST = 60
-SORTS = ("car", "foot", "tram")
 
 
 class Crossing:
@@ -62,7 +61,7 @@ def made_way(sort, name, start, end, off, near, least):
 
 
 def read_way(reader, places, ways):
-    sort = reader.one_of(SORTS)
+    sort = reader.one_of(["car", "foot", "tram"])
     name = read_new_name(reader, ways)
     start = reader.figures(0, places - 1)
     end = read_end(reader, places, start)

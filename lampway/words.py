@@ -2,6 +2,7 @@
 
 FIGURES = "0123456789"
 MOST_FIGURES = 3
+MOST_TURN_FIGURES = 59
 LETTERS = "abcdefghijklmnopqrstuvwxyz"
 MOST_LETTERS = 8
 
@@ -18,19 +19,25 @@ def is_made_of(word, signs, most):
     return all([sign in signs for sign in word])
 
 
-def is_number_word(word):
-    if not is_made_of(word, FIGURES, MOST_FIGURES):
+def is_number(word, most_figures):
+    if not is_made_of(word, FIGURES, most_figures):
         return False
     return word == "0" or word[0] != "0"
 
 
 def figured(word, low, high):
-    if not is_number_word(word):
+    if not is_number(word, MOST_FIGURES):
         return None
     number = int(word)
     if number < low or number > high:
         return None
     return number
+
+
+def turned(word):
+    if not is_number(word, MOST_TURN_FIGURES):
+        return None
+    return int(word)
 
 
 def is_name(word):
