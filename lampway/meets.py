@@ -32,7 +32,6 @@ def set_of(flags):
 
 
 def against(crossing, name):
-    crossing.called(name)
     return set_of([other != name and meet(crossing, name, other) for other in crossing.names()])
 
 
